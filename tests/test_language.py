@@ -186,7 +186,8 @@ class TheCheck(unittest.TestCase):
             "x = [1]\n", "# an enum\n", "# a\u00e4\n", "x = 1" + " " * 120 + "\n", "x = 1\n" + "\n" * 400,
             "def f(a):\n" + "    a.append(1)\n" * 40, "class A:\n    x = 1\n", "class A(list, dict):\n    pass\n",
             "class A:\n    def b(self):\n        self.b = 1\n", "def f(a):\n    return [b for c in a for b in c]\n",
-            "if True:\n    x = 1\n", "def len(a):\n    return 0\n", "def f(a):\n    return (b := a)\n", "def f(a):\n    return [*a]\n",
+            "if True:\n    x = 1\n", "def len(a):\n    return 0\n",
+            "def f(a):\n    return (b := a)\n", "def f(a):\n    return [*a]\n",
         ):
             with self.subTest(text=text[:60]):
                 self.assertNotEqual(faults([text]), [])

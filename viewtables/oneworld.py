@@ -27,7 +27,7 @@ class NotBuilt(NotImplementedError):
 
 def members(chosen):
     """The members, rising, of a set that is told as a number."""
-    return [k for k in range(chosen.bit_length()) if chosen >> k & 1 == 1]
+    return [k for k in range(chosen.bit_length()) if ((chosen >> k) & 1) == 1]
 
 
 def row_count(questions):
@@ -39,7 +39,7 @@ def row_of(world, questions):
     """The number of the row that a world shows for a set of questions."""
     row = 0
     for place, question in enumerate(members(questions)):
-        row |= (world >> question & 1) << place
+        row |= ((world >> question) & 1) << place
     return row
 
 
@@ -47,7 +47,7 @@ def world_of(row, questions):
     """A world that shows this row; questions outside the set are answered 0."""
     world = 0
     for place, question in enumerate(members(questions)):
-        world |= (row >> place & 1) << question
+        world |= ((row >> place) & 1) << question
     return world
 
 
@@ -183,7 +183,7 @@ def answer_margin(thing, given):
     if not thing.has_view(given[0]):
         return [NO_SUCH]
     view = thing.views[given[0]]
-    if given[1] | view.questions != view.questions:
+    if (given[1] & view.questions) != given[1]:
         return [NOT_ALLOWED]
     told = [row_count(given[1])]
     for likely in view.margin(given[1]):
