@@ -28,6 +28,12 @@ CALLS = {
     "ask": (19, 2, False),
 }
 
+# Questions 0 and 1 alike, 1 and 2 alike, 0 and 2 not: the views agree in twos, and no world fits.
+RING = [
+    ("begin", 3), ("view", 3), ("view", 6), ("view", 5),
+    ("table", 0, [1, 0, 0, 1]), ("table", 1, [1, 0, 0, 1]), ("table", 2, [0, 1, 1, 0]),
+]
+
 
 def told(calls):
     """The calls, each a tuple (name, arguments ..), as the one list that is handed in."""

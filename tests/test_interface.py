@@ -2,8 +2,8 @@
 
 import unittest
 
-from tests.helper import CALLS, LARGEST, apart, ask, last, told
-from viewtables.oneworld import NotBuilt, answers
+from tests.helper import CALLS, LARGEST, RING, apart, ask, last, told
+from viewtables.oneworld import answers
 
 
 def any_call(name, number, row):
@@ -19,7 +19,20 @@ class TheLists(unittest.TestCase):
             [1, 0, 1, 0, 1, 0, 5, 3, 1, 2, 3, 4, 3, 0, 1, 5, 5, 2, 2, 5, 3, 5, 1, -6, 1, -2],
         )
 
-    def test_each_of_the_ten_calls_alone_behind_a_begin(self):
+    def test_number_by_number_of_the_calls_about_worlds(self):
+        calls = [
+            0, 2, 1, 3, 1, 1, 3, 1, 2, 0, 4, 10, 11, 1, 12, 0, 0, 13, 14, 15, 16, 3, 17, 0, 18, 0, 19, 0, 1,
+            3, 0, 4, 1, 0, 1, 0, 14, 12, 0, 1, 18, 1, 2, 0, 10,
+        ]
+        self.assertEqual(
+            answers(calls),
+            [
+                1, 0, 1, 0, 1, 1, 1, 0, 3, 2, 1, 3, 3, 2, 0, 1, 1, 0, 5, 2, 0, 0, 0, 2, 1, -6, 2, 1, 2, 1, 1,
+                3, 2, 1, 3, 1, 1, 2, 1, 1, 1, 0, 3, 2, 0, 1, 1, -33, 1, -33, 1, 1, 3, 2, 1, 3,
+            ],
+        )
+
+    def test_each_of_the_calls_alone_behind_a_begin(self):
         for calls, expected in [
             ([0, 3], [1, 0]),
             ([1, 5], [1, 0]),
@@ -31,6 +44,16 @@ class TheLists(unittest.TestCase):
             ([7, 0, 0], [1, -2]),
             ([8, 0, 0], [1, -2]),
             ([9], [1, -6]),
+            ([10], [9, 8, 0, 1, 2, 3, 4, 5, 6, 7]),
+            ([11, 7], [1, 0]),
+            ([12, 0, 0], [1, -2]),
+            ([13], [1, 0]),
+            ([14], [1, -6]),
+            ([15], [2, 0, 0]),
+            ([16, 0], [1, 1]),
+            ([17, 0], [1, -2]),
+            ([18, 2], [1, 2]),
+            ([19, 0, 0], [1, -2]),
         ]:
             with self.subTest(calls=calls):
                 self.assertEqual(answers([0, 3] + calls), [1, 0] + expected)
@@ -55,10 +78,18 @@ class TheLists(unittest.TestCase):
         self.assertEqual(len(calls), 780)
         self.assertEqual(answers(calls), [1, -11] * 60)
 
+    def test_sixty_calls_with_the_longest_answers(self):
+        found = ask(("begin", 5), *[("worlds",)] * 59)
+        self.assertEqual(found, [[0]] + [[32, *range(32)]] * 59)
+
     def test_whole_numbers_are_never_true_or_false(self):
         numbers = answers(told([
             ("begin", 2), ("view", 1), ("view", 3), ("agree", 0, 1), ("world", 0),
             ("agree", 0, 1), ("share", 0, 1), ("margin", 0, 0), ("off",), ("viewis", 1),
+            ("worlds",), ("fits", 0), ("shown", 0, 1), ("lonely",), ("fewest",), ("most",),
+            ("together", 3), ("without", 1), ("sure", 1), ("ask", 1, 2), ("table", 0, [1, 0]),
+            ("table", 1, [0, 1, 0, 1]), ("shown", 0, 0), ("lonely",), ("fewest",), ("most",),
+            ("together", 3), ("without", 1), ("sure", 1), ("unview", 0), ("sure", 0),
         ]))
         self.assertEqual({type(number) for number in numbers}, {int})
         self.assertIs(type(numbers), list)
@@ -68,7 +99,8 @@ class NothingIsKept(unittest.TestCase):
     CALLS = [
         ("begin", 3), ("view", 3), ("view", 6), ("table", 0, [1, 2, 3, 4]), ("world", 5),
         ("unview", 1), ("viewis", 0), ("margin", 0, 1), ("share", 0, 3), ("view", 5),
-        ("agree", 0, 1), ("off",),
+        ("agree", 0, 1), ("off",), *RING, ("worlds",), ("fits", 3), ("shown", 0, 0), ("lonely",), ("fewest",),
+        ("most",), ("together", 6), ("without", 1), ("sure", 2), ("world", 6), ("ask", 1, 3), ("sure", 0),
     ]
 
     def test_the_list_handed_in_stays_as_it_was(self):
@@ -121,14 +153,6 @@ class AheadOfABegin(unittest.TestCase):
     def test_what_is_refused_changes_nothing(self):
         found = ask(("view", 3), ("world", 0), ("begin", 2), ("viewis", 0), ("view", 1), ("viewis", 0))
         self.assertEqual(found, [[-11], [-11], [0], [-2], [0], [1, 1, 1]])
-
-
-class LaterStages(unittest.TestCase):
-    def test_calls_that_are_not_built_say_so(self):
-        for name, (number, count, has_row) in CALLS.items():
-            if number > 9:
-                with self.subTest(name=name), self.assertRaises(NotBuilt):
-                    ask(("begin", 2), (name,) + (0,) * count)
 
 
 class TheHelper(unittest.TestCase):

@@ -2,7 +2,7 @@
 
 import unittest
 
-from tests.helper import LARGEST, ask, last
+from tests.helper import LARGEST, RING, ask, last
 
 EIGHT = [("begin", 5), ("view", 21), ("table", 0, [1, 2, 3, 4, 5, 6, 7, 8])]
 
@@ -176,17 +176,12 @@ class Off(unittest.TestCase):
 
 
 class Corners(unittest.TestCase):
-    RING = [
-        ("begin", 3), ("view", 3), ("view", 6), ("view", 5),
-        ("table", 0, [1, 0, 0, 1]), ("table", 1, [1, 0, 0, 1]), ("table", 2, [0, 1, 1, 0]),
-    ]
-
     def test_a_ring_that_agrees_in_twos(self):
         pairs = [("agree", i, j) for i in range(3) for j in range(3)]
-        self.assertEqual(ask(*self.RING, *pairs, ("off",))[7:], [[1]] * 9 + [[-6]])
+        self.assertEqual(ask(*RING, *pairs, ("off",))[7:], [[1]] * 9 + [[-6]])
 
     def test_a_ring_that_does_not(self):
-        found = ask(*self.RING, ("table", 2, [0, 1, 2, 0]), ("agree", 0, 1), ("agree", 1, 2), ("agree", 0, 2), ("off",))
+        found = ask(*RING, ("table", 2, [0, 1, 2, 0]), ("agree", 0, 1), ("agree", 1, 2), ("agree", 0, 2), ("off",))
         self.assertEqual(found[7:], [[0], [1], [0], [0], [0, 2]])
 
     def test_no_views(self):

@@ -1,1 +1,1 @@
-"""Tables that overlap: several views of a few questions each, and whether they agree."""
+"""Tables that overlap: several views of a few questions each, where they agree, and which worlds fit them."""

@@ -1,11 +1,12 @@
-"""The calls on one object: views of a few questions each, their tables, and where they agree."""
+"""The calls on one object: views of a few questions each, their tables, and the worlds that fit them."""
 
 NO_SUCH = -2
-NONE_OFF = -6
+NONE_FOUND = -6
 NOT_BEGUN = -11
 SAME_VIEW = -17
 NOT_ALLOWED = -22
 TOO_MANY = -28
+NOTHING_TO_TELL = -33
 
 FEWEST_QUESTIONS = 2
 MOST_QUESTIONS = 5
@@ -13,16 +14,13 @@ MOST_IN_VIEW = 3
 MOST_VIEWS = 6
 MOST_SEEN = 100
 
+UNSURE = 2
+
 BEGIN = 0
 TABLE = 3
 
-# Behind each call's number stand so many whole numbers, its row left aside. The calls
-# that are not built yet stand here too: ahead of a begin they are read past and refused.
+# Behind each call's number stand so many whole numbers, its row left aside.
 ARGUMENT_COUNTS = (1, 1, 1, 1, 1, 1, 2, 2, 2, 0, 0, 1, 2, 0, 0, 0, 1, 1, 1, 2)
-
-
-class NotBuilt(NotImplementedError):
-    """A call that the document tells and that this stage does not answer."""
 
 
 def members(chosen):
@@ -78,6 +76,13 @@ class View:
         row = row_of(world, self.questions)
         self.table[row] = min(self.table[row] + 1, MOST_SEEN)
 
+    def has_seen(self, row):
+        return self.table[row] > 0
+
+    def fits(self, world):
+        """Whether the row that a world shows was seen."""
+        return self.has_seen(row_of(world, self.questions))
+
     def share(self, row):
         """How likely a row is, as a fraction."""
         return fraction(self.table[row], sum(self.table))
@@ -106,14 +111,52 @@ class Thing:
     def has_view(self, number):
         return number < len(self.views)
 
+    def has_row(self, number, row):
+        """Whether there is such a view, and such a row of it."""
+        return self.has_view(number) and row < len(self.views[number].table)
+
     def has_world(self, world):
-        return world < 1 << self.question_count
+        return world < self.world_count()
+
+    def world_count(self):
+        return 1 << self.question_count
+
+    def all_views(self):
+        """The set of all views, told as a number like every set of views below."""
+        return (1 << len(self.views)) - 1
 
     def may_view(self, questions):
         """Whether a view may be of these: 1 to 3 questions that there are."""
         if questions >= 1 << self.question_count:
             return False
         return 1 <= len(members(questions)) <= MOST_IN_VIEW
+
+    def views_fitted(self, world):
+        """The set of views that a world fits."""
+        fitted = 0
+        for number, view in enumerate(self.views):
+            if view.fits(world):
+                fitted |= 1 << number
+        return fitted
+
+    def worlds_fitting(self, chosen):
+        """The worlds, rising, that fit each of a set of views."""
+        return [world for world in range(self.world_count()) if (self.views_fitted(world) & chosen) == chosen]
+
+    def worlds_showing(self, number, row):
+        """The worlds, rising, that fit all views and show a row of one of them."""
+        questions = self.views[number].questions
+        return [world for world in self.worlds_fitting(self.all_views()) if row_of(world, questions) == row]
+
+    def apart(self):
+        """All that can't be together: a list of views, rising, for each such set."""
+        # Kept for all sets at once, as each of them asks for every world again.
+        fitted = [self.views_fitted(world) for world in range(self.world_count())]
+        found = []
+        for chosen in range(self.all_views() + 1):
+            if not any([(views & chosen) == chosen for views in fitted]):
+                found.append(members(chosen))
+        return found
 
 
 def answer_begin(thing, given):
@@ -171,12 +214,9 @@ def answer_world(thing, given):
 
 
 def answer_share(thing, given):
-    if not thing.has_view(given[0]):
+    if not thing.has_row(given[0], given[1]):
         return [NO_SUCH]
-    view = thing.views[given[0]]
-    if given[1] >= len(view.table):
-        return [NO_SUCH]
-    return [0] + view.share(given[1])
+    return [0] + thing.views[given[0]].share(given[1])
 
 
 def answer_margin(thing, given):
@@ -203,7 +243,86 @@ def answer_off(thing, given):
         for second in range(first + 1, view_count):
             if not thing.views[first].agrees(thing.views[second]):
                 return [first, second]
-    return [NONE_OFF]
+    return [NONE_FOUND]
+
+
+def counted(found):
+    """How many, then they."""
+    return [len(found)] + found
+
+
+def answer_worlds(thing, given):
+    return counted(thing.worlds_fitting(thing.all_views()))
+
+
+def answer_fits(thing, given):
+    if not thing.has_world(given[0]):
+        return [NOT_ALLOWED]
+    return counted(members(thing.views_fitted(given[0])))
+
+
+def answer_shown(thing, given):
+    if not thing.has_row(given[0], given[1]):
+        return [NO_SUCH]
+    if not thing.views[given[0]].has_seen(given[1]):
+        return [NOTHING_TO_TELL]
+    return [1 if len(thing.worlds_showing(given[0], given[1])) > 0 else 0]
+
+
+def answer_lonely(thing, given):
+    fitting = thing.worlds_fitting(thing.all_views())
+    found = []
+    for number, view in enumerate(thing.views):
+        shown = [row_of(world, view.questions) for world in fitting]
+        for row in range(len(view.table)):
+            if view.has_seen(row) and row not in shown:
+                found.extend([number, row])
+    # Each of them is two numbers, a view and a row, but counts once.
+    return [len(found) // 2] + found
+
+
+def size_then_members(views):
+    return (len(views), views)
+
+
+def answer_fewest(thing, given):
+    apart = thing.apart()
+    if len(apart) == 0:
+        return [NONE_FOUND]
+    return counted(min(apart, key=size_then_members))
+
+
+def answer_most(thing, given):
+    counts = [len(members(thing.views_fitted(world))) for world in range(thing.world_count())]
+    most = max(counts)
+    return [counts.index(most), most]
+
+
+def answer_together(thing, given):
+    if given[0] > thing.all_views():
+        return [NOT_ALLOWED]
+    return [1 if len(thing.worlds_fitting(given[0])) > 0 else 0]
+
+
+def answer_without(thing, given):
+    if not thing.has_view(given[0]):
+        return [NO_SUCH]
+    return counted(thing.worlds_fitting(thing.all_views() - (1 << given[0])))
+
+
+def answer_sure(thing, given):
+    if given[0] >= thing.question_count:
+        return [NO_SUCH]
+    said = [(world >> given[0]) & 1 for world in thing.worlds_fitting(thing.all_views())]
+    if len(said) == 0:
+        return [NOTHING_TO_TELL]
+    return [said[0] if min(said) == max(said) else UNSURE]
+
+
+def answer_ask(thing, given):
+    if not thing.has_row(given[0], given[1]):
+        return [NO_SUCH]
+    return counted(thing.worlds_showing(given[0], given[1]))
 
 
 # By the calls' numbers, which count from 0.
@@ -218,6 +337,16 @@ ANSWERS_BY_CALL = (
     answer_margin,
     answer_agree,
     answer_off,
+    answer_worlds,
+    answer_fits,
+    answer_shown,
+    answer_lonely,
+    answer_fewest,
+    answer_most,
+    answer_together,
+    answer_without,
+    answer_sure,
+    answer_ask,
 )
 
 
@@ -225,8 +354,6 @@ def answer_call(thing, call, given):
     """What one call answers, number by number."""
     if call != BEGIN and thing.question_count == 0:
         return [NOT_BEGUN]
-    if call >= len(ANSWERS_BY_CALL):
-        raise NotBuilt(f"call {call} is not built yet")
     return ANSWERS_BY_CALL[call](thing, given)
 
 
